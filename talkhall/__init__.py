@@ -1,0 +1,1 @@
+"""Talkhall: a hall of rooms in which people talk."""

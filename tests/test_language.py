@@ -1,0 +1,166 @@
+"""Holds the package's files to those rules of LANGUAGE.md that can be read off the code with little effort."""
+
+import ast
+import re
+import unittest
+from pathlib import Path
+
+PACKAGE = Path(__file__).resolve().parent.parent / "talkhall"
+
+OWN_NAMES = set("""len range enumerate zip min max sum abs sorted reversed int str bool list tuple dict set frozenset
+isinstance ord repr any all divmod Exception ValueError TypeError KeyError IndexError LookupError ZeroDivisionError
+ArithmeticError OverflowError RuntimeError NotImplementedError StopIteration""".split())
+METHODS = set("""append clear copy count endswith extend find get index insert isalnum isalpha isdigit islower isspace
+isupper items join keys ljust lower lstrip partition pop remove replace reverse rfind rjust rpartition rsplit rstrip
+setdefault split splitlines startswith strip update upper values zfill bit_length""".split())
+NODES = set("""Module FunctionDef ClassDef Return Assign AugAssign For While If Raise Try ImportFrom Expr Pass Break
+Continue BoolOp And Or BinOp UnaryOp Not USub UAdd Invert Lambda IfExp Dict Set ListComp comprehension Compare Call
+JoinedStr FormattedValue Constant Attribute Subscript Name List Tuple Slice Load Store ExceptHandler arguments arg
+keyword alias Add Sub Mult FloorDiv Mod Pow LShift RShift BitOr BitXor BitAnd Eq NotEq Lt LtE Gt GtE Is IsNot In
+NotIn""".split())
+UNDERSCORED = ("__init__", "__eq__", "__repr__", "__str__", "__len__")
+WORDS = re.compile(r"\b(type|typing|typing_extensions|enum|Enum|IntEnum|StrEnum|Flag|IntFlag|Generic|Protocol|ABC|ABCMeta"
+                   r"|namedtuple|NamedTuple|TypedDict|TYPE_CHECKING|abstractmethod)\b|dataclass|overload|contextmanager")
+UNUSED = ("register", "mro", "elements", "open", "input", "version_info", "with_traceback", "add_note", "format",
+          "format_map")
+
+
+def names_of(tree):
+    """All names that a file binds, and the methods of its classes."""
+    bound = set()
+    for node in ast.walk(tree):
+        if isinstance(node, (ast.FunctionDef, ast.ClassDef)):
+            bound.add(node.name)
+        elif isinstance(node, ast.arg):
+            bound.add(node.arg)
+        elif isinstance(node, ast.alias):
+            bound.add(node.asname or node.name)
+        elif isinstance(node, ast.ExceptHandler) and node.name:
+            bound.add(node.name)
+        elif isinstance(node, ast.Name) and isinstance(node.ctx, ast.Store):
+            bound.add(node.id)
+    return bound
+
+
+def faults_of_text(text):
+    lines = text.split("\n")
+    if len(lines) > 401:
+        yield "L10 the file is long"
+    for number, line in enumerate(lines, 1):
+        if len(line) > 120:
+            yield f"L10 line {number} is long"
+        if any(not " " <= sign <= "~" for sign in line):
+            yield f"L14 line {number} has another sign"
+        if WORDS.search(line):
+            yield f"L17 line {number} has a word that stands nowhere"
+
+
+def faults_of_top(tree):
+    for place, node in enumerate(tree.body):
+        docstring = place == 0 and isinstance(node, ast.Expr) and isinstance(node.value, ast.Constant)
+        single = isinstance(node, ast.Assign) and isinstance(node.targets[0], ast.Name)
+        if not (docstring or single or isinstance(node, (ast.ImportFrom, ast.FunctionDef, ast.ClassDef))):
+            yield f"L3 line {node.lineno}"
+    tops = [node.name for node in tree.body if isinstance(node, (ast.FunctionDef, ast.ClassDef))]
+    tops += [node.targets[0].id for node in tree.body if isinstance(node, ast.Assign)]
+    if len(tops) != len(set(tops)):
+        yield "L15 a name is bound twice"
+
+
+def faults_of_node(node, bound):
+    line = f"line {getattr(node, 'lineno', 0)}"
+    if type(node).__name__ not in NODES:
+        yield f"L6, L7 {line} {type(node).__name__}"
+    if isinstance(node, ast.ImportFrom) and (node.level or not re.match(r"talkhall\.\w+$", node.module)):
+        yield f"L2 {line}"
+    if isinstance(node, ast.FunctionDef):
+        if node.decorator_list or node.args.vararg or node.args.kwarg or node.args.kwonlyargs:
+            yield f"L4 {line}"
+        if node.end_lineno - node.lineno >= 40:
+            yield f"L10 {line} the function is long"
+    if isinstance(node, ast.Expr) and not isinstance(node.value, ast.Call) and node.col_offset:
+        yield f"L6 {line} no call by itself"
+    if isinstance(node, ast.Assign) and (len(node.targets) > 1 or isinstance(node.targets[0], ast.Tuple)):
+        yield f"L6 {line} several targets"
+    if isinstance(node, (ast.For, ast.While)) and node.orelse or isinstance(node, ast.Try) and node.finalbody:
+        yield f"L6 {line}"
+    if isinstance(node, ast.Constant) and isinstance(node.value, (float, bytes, complex)):
+        yield f"L7 {line}"
+    if isinstance(node, ast.Constant) and isinstance(node.value, str) and "%" in node.value:
+        yield f"L27 {line}"
+    if isinstance(node, ast.ListComp) and (len(node.generators) > 1 or len(node.generators[0].ifs) > 1):
+        yield f"L7 {line}"
+    if isinstance(node, ast.Name) and node.id not in bound | OWN_NAMES:
+        yield f"L8 {line} {node.id}"
+    if isinstance(node, ast.Call) and isinstance(node.func, ast.Attribute) and node.func.attr not in METHODS | bound | {
+            "__init__"}:
+        yield f"L25 {line} {node.func.attr}"
+    if isinstance(node, ast.Attribute) and node.attr in UNUSED:
+        yield f"L17 {line} {node.attr}"
+    if isinstance(node, ast.Compare):
+        sides = [node.left] + node.comparators
+        for place, sign in enumerate(node.ops):
+            plain = any(isinstance(side, ast.Constant) and repr(side.value) in ("None", "True", "False")
+                        for side in sides[place:place + 2])
+            if isinstance(sign, (ast.Is, ast.IsNot)) and not plain:
+                yield f"L20 {line}"
+
+
+def faults_of(text, methods=frozenset()):
+    tree = ast.parse(text)
+    bound = names_of(tree)
+    faults = list(faults_of_text(text)) + list(faults_of_top(tree))
+    for name in sorted(bound):
+        if name not in UNDERSCORED and not re.match(r"[A-Za-z][A-Za-z0-9_]*$", name):
+            faults.append(f"L12 {name}")
+        if name in OWN_NAMES | set(UNUSED):
+            faults.append(f"L8, L15, L17 {name}")
+    for node in ast.walk(tree):
+        faults += faults_of_node(node, bound | methods)
+    return faults
+
+
+def drawn_from(text):
+    return [node.module.split(".")[1] for node in ast.walk(ast.parse(text)) if isinstance(node, ast.ImportFrom)]
+
+
+class Language(unittest.TestCase):
+    def setUp(self):
+        self.texts = {path.stem: path.read_text("utf-8") for path in sorted(PACKAGE.glob("*.py"))}
+
+    def test_the_folder_holds_plain_files_alone(self):
+        self.assertIn("__init__", self.texts)
+        for path in PACKAGE.iterdir():
+            if path.name != "__pycache__":
+                self.assertRegex(path.name, r"^([a-z][a-z0-9_]*|__init__)\.py$")
+
+    def test_each_file_keeps_to_the_rules(self):
+        methods = set()
+        for text in self.texts.values():
+            methods |= names_of(ast.parse(text))
+        for name, text in self.texts.items():
+            self.assertEqual(faults_of(text, frozenset(methods)), [], name)
+
+    def test_no_two_files_draw_from_one_another(self):
+        draws = {name: drawn_from(text) for name, text in self.texts.items()}
+        settled = []
+        while len(settled) < len(draws):
+            free = [name for name in draws if name not in settled and all(other in settled for other in draws[name])]
+            self.assertTrue(free, f"a ring among {sorted(set(draws) - set(settled))}")
+            settled += free
+
+    def test_a_breach_is_seen(self):
+        breaches = ("import os\n", "from talkhall import words\n", "x = 1\nx = 2\n", "print(1)\n",
+                    "def f():\n    x = y = 1\n", "def f(*a):\n    pass\n", "def f(a):\n    return a / 2\n",
+                    "def f(a):\n    return {b for b in a}\n", "def f(a):\n    return a is f\n", "def f(len):\n    pass\n",
+                    "def _f():\n    pass\n", "# the type of it\n", "# caf\u00e9\n", "x = 1.5\n",
+                    "def f(a):\n    a.sort()\n", "def f(a):\n    \"told\"\n", "def f(a):\n    assert a\n",
+                    "x = \"" + "y" * 120 + "\"\n", "def f():\n" + "    pass\n" * 40, "x = 1\n" + "\n" * 400,
+                    "def f(a):\n    return getattr(a, \"b\")\n", "x = \"5%\"\n")
+        for text in breaches:
+            with self.subTest(text):
+                self.assertNotEqual(faults_of(text), [])
+
+
+if __name__ == "__main__":
+    unittest.main()

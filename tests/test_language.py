@@ -1,6 +1,7 @@
 """Holds the package's files to those rules of LANGUAGE.md that can be read off the code with little effort."""
 
 import ast
+import builtins
 import re
 import unittest
 from pathlib import Path
@@ -23,6 +24,17 @@ WORDS = re.compile(r"\b(type|typing|typing_extensions|enum|Enum|IntEnum|StrEnum|
                    r"|namedtuple|NamedTuple|TypedDict|TYPE_CHECKING|abstractmethod)\b|dataclass|overload|contextmanager")
 UNUSED = ("register", "mro", "elements", "open", "input", "version_info", "with_traceback", "add_note", "format",
           "format_map")
+
+OF_PYTHON = set().union(*(dir(kind) for kind in (str, int, list, dict, set, bytes)))
+VALUES_ALLOWED = set("count index title find get join lower upper split strip copy add".split())
+VALUES_FORBIDDEN = set("""items keys values pop update append clear extend insert remove reverse setdefault sort args encode
+format""".split())
+WALKED = set("zip enumerate reversed range".split())
+VIEWS = set("items keys values".split())
+WALKERS = set("list tuple dict sorted sum any all enumerate zip".split())
+CALLED_ONLY = OWN_NAMES - set("""int str bool list tuple dict Exception ValueError TypeError KeyError IndexError LookupError
+ZeroDivisionError ArithmeticError OverflowError RuntimeError NotImplementedError StopIteration""".split())
+AS_KEY = set("len int str abs sum min max tuple".split())
 
 
 def names_of(tree):
@@ -106,10 +118,100 @@ def faults_of_node(node, bound):
                 yield f"L20 {line}"
 
 
+def parents_of(tree):
+    return {child: node for node in ast.walk(tree) for child in ast.iter_child_nodes(node)}
+
+
+def name_of_call(node):
+    return node.func.id if isinstance(node, ast.Call) and isinstance(node.func, ast.Name) else None
+
+
+def is_walked(node, parent):
+    if isinstance(parent, (ast.For, ast.comprehension)):
+        return node is parent.iter
+    if name_of_call(parent) in WALKERS:
+        return node is parent.args[0]
+    if name_of_call(parent) in ("min", "max"):
+        return len(parent.args) == 1
+    return isinstance(parent, ast.Call) and isinstance(parent.func, ast.Attribute) and parent.func.attr == "join"
+
+
+def is_asked_at_once(node, parent):
+    """Whether a set stands where no order of its members can show."""
+    if isinstance(parent, ast.BinOp):
+        return True
+    return isinstance(parent, ast.Compare) or name_of_call(parent) in ("sorted", "len") and not parent.keywords
+
+
+def faults_of_places(tree):
+    """Walks, sets, and Python's own names that stand where they may not."""
+    parents = parents_of(tree)
+    for node in ast.walk(tree):
+        parent = parents.get(node)
+        line = f"line {getattr(node, 'lineno', 0)}"
+        view = isinstance(node, ast.Call) and isinstance(node.func, ast.Attribute) and node.func.attr in VIEWS
+        if (view or name_of_call(node) in WALKED) and not is_walked(node, parent):
+            yield f"L23 {line}"
+        if name_of_call(node) in ("set", "frozenset") and not is_asked_at_once(node, parent):
+            yield f"L24 {line}"
+        if isinstance(node, ast.Name) and node.id in CALLED_ONLY and not (
+                isinstance(parent, ast.Call) and node is parent.func
+                or isinstance(parent, ast.keyword) and parent.arg == "key" and node.id in AS_KEY):
+            yield f"L22 {line} {node.id}"
+        if isinstance(node, ast.BinOp) and isinstance(node.op, ast.Pow) and not isinstance(node.right, ast.Constant):
+            yield f"L27 {line}"
+        if isinstance(node, ast.ExceptHandler) and (
+                node.type is None or isinstance(node.type, ast.Name) and node.type.id in ("Exception", "TypeError")):
+            yield f"L19 {line}"
+
+
+def faults_of_locals(tree):
+    taken = {node.name for node in tree.body if isinstance(node, ast.ClassDef)} | set(dir(builtins))
+    taken |= {alias.asname or alias.name for node in tree.body if isinstance(node, ast.ImportFrom)
+              for alias in node.names}
+    for node in ast.walk(tree):
+        name = node.arg if isinstance(node, ast.arg) else None
+        if isinstance(node, ast.Name) and isinstance(node.ctx, ast.Store):
+            name = node.id
+        if name in taken:
+            yield f"L15 line {node.lineno} {name}"
+
+
+def methods_and_values(tree):
+    methods = [part.name for node in ast.walk(tree) if isinstance(node, ast.ClassDef)
+               for part in node.body if isinstance(part, ast.FunctionDef)]
+    values = [node.attr for node in ast.walk(tree) if isinstance(node, ast.Attribute) and isinstance(node.ctx, ast.Store)]
+    return set(methods) - set(UNDERSCORED), set(values)
+
+
+def faults_of_classes(trees):
+    """The classes of all files together, since a name that is a method here may be no value there."""
+    methods, values = set(), set()
+    for tree in trees:
+        more = methods_and_values(tree)
+        methods |= more[0]
+        values |= more[1]
+        for node in ast.walk(tree):
+            if isinstance(node, ast.ClassDef):
+                names = [part.name for part in node.body if isinstance(part, ast.FunctionDef)]
+                plain = all(isinstance(part, (ast.FunctionDef, ast.Pass)) for part in node.body)
+                if len(node.bases) > 1 or node.keywords or node.decorator_list or not plain:
+                    yield f"L5 {node.name}"
+                if len(names) != len(set(names)):
+                    yield f"L18 {node.name} has a method twice"
+    for name in sorted(methods & values):
+        yield f"L18 {name} is a method and a value"
+    for name in sorted(methods & OF_PYTHON - METHODS - {"add", "discard"}):
+        yield f"L26 the method {name}"
+    for name in sorted(values & OF_PYTHON - VALUES_ALLOWED | values & VALUES_FORBIDDEN):
+        yield f"L26 the value {name}"
+
+
 def faults_of(text, methods=frozenset()):
     tree = ast.parse(text)
     bound = names_of(tree)
     faults = list(faults_of_text(text)) + list(faults_of_top(tree))
+    faults += list(faults_of_places(tree)) + list(faults_of_locals(tree))
     for name in sorted(bound):
         if name not in UNDERSCORED and not re.match(r"[A-Za-z][A-Za-z0-9_]*$", name):
             faults.append(f"L12 {name}")
@@ -141,6 +243,9 @@ class Language(unittest.TestCase):
         for name, text in self.texts.items():
             self.assertEqual(faults_of(text, frozenset(methods)), [], name)
 
+    def test_the_classes_keep_to_the_rules(self):
+        self.assertEqual(list(faults_of_classes([ast.parse(text) for text in self.texts.values()])), [])
+
     def test_no_two_files_draw_from_one_another(self):
         draws = {name: drawn_from(text) for name, text in self.texts.items()}
         settled = []
@@ -156,10 +261,27 @@ class Language(unittest.TestCase):
                     "def _f():\n    pass\n", "# the type of it\n", "# caf\u00e9\n", "x = 1.5\n",
                     "def f(a):\n    a.sort()\n", "def f(a):\n    \"told\"\n", "def f(a):\n    assert a\n",
                     "x = \"" + "y" * 120 + "\"\n", "def f():\n" + "    pass\n" * 40, "x = 1\n" + "\n" * 400,
-                    "def f(a):\n    return getattr(a, \"b\")\n", "x = \"5%\"\n")
+                    "def f(a):\n    return getattr(a, \"b\")\n", "x = \"5%\"\n",
+                    "def f(a):\n    return 1 in a.values()\n", "def f(a):\n    b = range(a)\n    return b\n",
+                    "def f(a):\n    b = set(a)\n    return b\n", "def f(a):\n    return sorted(a, key=repr)\n",
+                    "def f(a):\n    return 2 ** a\n", "def f(map):\n    pass\n",
+                    "from talkhall.words import called\n\n\ndef f(called):\n    pass\n",
+                    "def f(a):\n    try:\n        a()\n    except TypeError:\n        pass\n")
         for text in breaches:
             with self.subTest(text):
                 self.assertNotEqual(faults_of(text), [])
+
+    def test_a_breach_of_classes_is_seen(self):
+        value = "class A:\n    def __init__(self):\n        self.{} = 1\n"
+        method = "class B:\n    def {}(self):\n        pass\n"
+        breaches = ((value.format("rows"), method.format("rows")), (value.format("items"),), (value.format("sort"),),
+                    (method.format("sort"),), (method.format("f") + "    def f(self):\n        pass\n",),
+                    ("class A(B, C):\n    pass\n",), ("class A:\n    x = 1\n",))
+        for texts in breaches:
+            with self.subTest(texts):
+                self.assertNotEqual(list(faults_of_classes([ast.parse(text) for text in texts])), [])
+        fine = (value.format("count"), method.format("get"))
+        self.assertEqual(list(faults_of_classes([ast.parse(text) for text in fine])), [])
 
 
 if __name__ == "__main__":

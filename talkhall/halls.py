@@ -86,19 +86,19 @@ class Hall:
         return self.place_for((who,), room).ranks.get(who)
 
     def roles(self, room):
-        return tuple(sorted(self.place(room).ranks.items()))
+        return self.place(room).roles()
 
     def setting(self, room, what):
-        return self.place(room).chosen[what]
+        return self.place(room).setting(what)
 
     def barred(self, room):
-        return tuple(sorted(self.place(room).banned))
+        return self.place(room).barred()
 
     def asked(self, room):
-        return tuple(sorted(self.place(room).invited))
+        return self.place(room).asked()
 
     def rows(self, room):
-        return tuple(self.place(room).log)
+        return self.place(room).rows()
 
     def sees(self, room, who):
         return seen_by(self.place_for((who,), room).log, who)

@@ -172,6 +172,21 @@ class Room:
             self.need_keeper(who)
         self.write_row(who, "gone", (number,))
 
+    def roles(self):
+        return tuple(sorted(self.ranks.items()))
+
+    def setting(self, what):
+        return self.chosen[what]
+
+    def barred(self):
+        return tuple(sorted(self.banned))
+
+    def asked(self):
+        return tuple(sorted(self.invited))
+
+    def rows(self):
+        return tuple(self.log)
+
     def last_read(self, who):
         return self.read_marks.get(who, 0)
 
